@@ -1,0 +1,1 @@
+"""Shrinkhouse: what fails, made small, and what shows it."""

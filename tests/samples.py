@@ -1,0 +1,83 @@
+"""Inputs that several tests share: things of every shape, small ones, and wrong ones."""
+
+from itertools import combinations, product
+
+from shrinkhouse.things import Forest, Row, Table
+
+LONG = 10 ** 59 + 7  # sixty figures
+
+NO_LISTS = [
+    None, True, False, 0, 1, -1, LONG, -LONG, "", "a", "ab", "row a", "\n", "\t", (), ("a",), (0,),
+    (("a", 0),), (["a"],), ([],), ((((),),),),
+]
+
+NO_WHOLES = [None, True, False, "", "0", "1", " 1", "a", [], [0], (), (0,), [[0]], [[[[0]]]]]
+
+SIGNS = [chr(code) for code in range(ord(" "), ord("~") + 1) if chr(code) != "%"] + ["\n", "\t"]
+
+LETTERS = "abcdefghijklmnopqrstuvwxyz"
+
+NO_MARKS = [
+    None, True, False, 0, 1, LONG, -LONG, "", "abcdefghi", "a" * 2000, "A", "aB", "Ab", "a1", "1", "0",
+    " ", " a", "a ", "a b", "\n", "\na", "a\n", "a\nb", "\t", "\ta", "a\t", "a\tb", "a_", "-", "a-b",
+    "a,b", "(a)", "`", "{", "@", "[", "~", "abcdefgh\n", "abcdefgh ", [], ["a"], (), ("a",), [["a"]],
+    [[[["a"]]]], (((("a",),),),), ["a", 1],
+]
+
+
+def names(many):
+    """So many unlike marks."""
+    return ["m" + LETTERS[at // 26] + LETTERS[at % 26] for at in range(many)]
+
+
+def small_rows():
+    for many in range(5):
+        for marks in product("ab", repeat=many):
+            yield Row(list(marks))
+
+
+def depths_of(many):
+    """Every way to lay out so many nodes."""
+    if many == 0:
+        return [[]]
+    grown = []
+    for depths in depths_of(many - 1):
+        top = depths[-1] + 1 if depths else 0
+        grown.extend([depths + [depth] for depth in range(top + 1)])
+    return grown
+
+
+def small_forests():
+    for many in range(6):
+        marks = ["a", "b", "a", "c", "b"][:many]
+        for depths in depths_of(many):
+            yield Forest(list(zip(marks, depths)))
+            yield Forest(list(zip(reversed(marks), depths)))
+
+
+def small_tables():
+    for many, columns in product(range(4), range(3)):
+        for marks in product("ab", repeat=many * columns):
+            yield Table([list(marks[at * columns:(at + 1) * columns]) for at in range(many)])
+
+
+def small_things():
+    yield from small_rows()
+    yield from small_forests()
+    yield from small_tables()
+
+
+def some_of(places):
+    """Every list of some of the places, none and all among them."""
+    for many in range(len(places) + 1):
+        for some in combinations(places, many):
+            yield list(some)
+
+
+def hung_under(nodes, place):
+    """The places of the nodes under which the one at this place hangs, by the words of point 5."""
+    depth = nodes[place][1]
+    for ahead in range(place - 1, -1, -1):
+        if nodes[ahead][1] == depth - 1:
+            return hung_under(nodes, ahead) + [ahead]
+    return []
