@@ -74,6 +74,23 @@ def some_of(places):
             yield list(some)
 
 
+def things_of_three():
+    """Things of every kind that have three places."""
+    return [
+        Row(["a", "b", "c"]), Forest([("a", 0), ("b", 1), ("c", 0)]), Table([["a", "b"]]), Table([["a"], ["b"]]),
+        Table([["a", "b", "c"]]).left([1, 2, 3]), Table([["a"], ["b"], ["c"]]).left([0, 1, 2]),
+    ]
+
+
+def no_places_of_three():
+    """What is no list of places of a thing that has three of them."""
+    wrong = list(NO_LISTS)
+    for part in NO_WHOLES + [-1, -3, -LONG, 3, 4, 40, 2 ** 64, LONG]:
+        wrong += [[part], [part, 1], [0, part], [0, part, 2], [0, 1, 2, part]]
+    wrong += [[0, 0], [2, 2], [0, 1, 1], [0, 0, 1, 2], [1, 0], [2, 1, 0], [0, 2, 1], [1, 2, 0], [2, 0, 1]]
+    return wrong
+
+
 def hung_under(nodes, place):
     """The places of the nodes under which the one at this place hangs, by the words of point 5."""
     depth = nodes[place][1]
