@@ -11,6 +11,15 @@ def check_rule(rule):
         raise NoRule("no rule")
 
 
+def check_rules(rules):
+    if not isinstance(rules, list) or not rules:
+        raise NoRule("no list of rules, or an empty one")
+    for rule in rules:
+        check_rule(rule)
+    if len(set(rules)) < len(rules):
+        raise NoRule("a rule stands twice")
+
+
 def sizes_down(many):
     if many == 0:
         return []

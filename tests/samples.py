@@ -1,6 +1,6 @@
 """Inputs that several tests share: things of every shape, small ones, and wrong ones."""
 
-from itertools import combinations, product
+from itertools import combinations, permutations, product
 
 from shrinkhouse.things import Forest, Row, Table
 
@@ -16,6 +16,8 @@ NO_WHOLES = [None, True, False, "", "0", "1", " 1", "a", [], [0], (), (0,), [[0]
 SIGNS = [chr(code) for code in range(ord(" "), ord("~") + 1) if chr(code) != "%"] + ["\n", "\t"]
 
 LETTERS = "abcdefghijklmnopqrstuvwxyz"
+
+RULES = ["halves", "trees", "ones", "marks"]
 
 NO_MARKS = [
     None, True, False, 0, 1, LONG, -LONG, "", "abcdefghi", "a" * 2000, "A", "aB", "Ab", "a1", "1", "0",
@@ -98,3 +100,36 @@ def hung_under(nodes, place):
         if nodes[ahead][1] == depth - 1:
             return hung_under(nodes, ahead) + [ahead]
     return []
+
+
+def no_rules():
+    """What is no rule."""
+    wrong = [
+        None, True, False, 0, 1, -1, LONG, [], (), ["halves"], ("halves",), ["halves", "ones"], list(RULES),
+        tuple(RULES), [["ones"]], [[[["ones"]]]], "", " ", "\n", "\t", "a", "rule", "half", "tree", "one", "mark",
+        "all", "halves ones", "halvesones", ",", "halves,ones",
+    ]
+    for rule in RULES:
+        wrong += [rule.upper(), rule.capitalize(), rule * 2]
+        for at in range(len(rule) + 1):
+            for sign in ["a", "s", "z", "A", " ", "\n", "\t", "_", "0"]:
+                wrong += [rule[:at] + sign + rule[at:], rule[:at] + sign + rule[at + 1:]]
+            wrong += [rule[:at] + rule[at + 1:], rule[:at] + rule[at:at + 1].upper() + rule[at + 1:], rule[:at]]
+    return [rule for rule in wrong if rule not in RULES]
+
+
+def lists_of_rules():
+    """Every list of one to four unlike rules."""
+    return [list(some) for many in range(1, 5) for some in permutations(RULES, many)]
+
+
+def spoil(told):
+    """Changes a list, and each list in it, also within tuples, in every way."""
+    for part in told:
+        if isinstance(part, (list, tuple)):
+            spoil(part)
+    if isinstance(told, list):
+        told.reverse()
+        told.append("spoilt")
+        told.insert(0, 77)
+        del told[1:]

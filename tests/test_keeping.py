@@ -1,6 +1,7 @@
 import unittest
 from copy import deepcopy
 
+from samples import spoil
 from shrinkhouse.errors import NoPlace, NoThing
 from shrinkhouse.marks import is_mark, is_whole
 from shrinkhouse.things import Forest, Row, Table
@@ -24,17 +25,6 @@ def all_told(thing):
             told.append([thing.is_before(one, other), thing.is_under(one, other), thing.is_beside(one, other)])
     told.append([thing.left(places).form() for places in ([], [0], [1, 2], list(range(thing.many())))])
     return told
-
-
-def spoil(told):
-    """Changes a list, and each list in it, in every way."""
-    for part in told:
-        if isinstance(part, list):
-            spoil(part)
-    told.reverse()
-    told.append("spoilt")
-    told.insert(0, 77)
-    del told[1:]
 
 
 class KeepingTest(unittest.TestCase):

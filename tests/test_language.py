@@ -78,6 +78,27 @@ def methods_and_values():
     return methods, values
 
 
+def imports_of(tree):
+    return [node for node in tree.body if isinstance(node, ast.ImportFrom)]
+
+
+def defined_at_top(tree):
+    names = [node.name for node in tree.body if isinstance(node, (ast.FunctionDef, ast.ClassDef))]
+    for node in tree.body:
+        if isinstance(node, ast.Assign):
+            names.append(node.targets[0].id)
+    return names
+
+
+def own_locals(function):
+    """The parameters of a function and the names that it binds."""
+    names = {part.arg for part in function.args.args}
+    for node in ast.walk(function):
+        if isinstance(node, ast.Name) and isinstance(node.ctx, ast.Store):
+            names.add(node.id)
+    return names
+
+
 class LanguageTest(unittest.TestCase):
     def of_each(self, kinds, check):
         for path, tree in trees():
@@ -113,6 +134,66 @@ class LanguageTest(unittest.TestCase):
         self.assertEqual(node.level, 0)
         self.assertTrue(node.module.startswith("shrinkhouse."))
         self.assertNotIn("*", [alias.name for alias in node.names])
+
+    def test_imports_from_where_a_name_is_defined(self):
+        """L16: from the very file that defines the name, and no two files draw from one another."""
+        tops = {path.stem: tree for path, tree in trees()}
+        drawn = {}
+        for name, tree in tops.items():
+            drawn[name] = [node.module.partition(".")[2] for node in imports_of(tree)]
+            for node in imports_of(tree):
+                for alias in node.names:
+                    with self.subTest(file=name, name=alias.name):
+                        self.assertIsNone(alias.asname)
+                        self.assertIn(alias.name, defined_at_top(tops[node.module.partition(".")[2]]))
+        while drawn:
+            free = [name for name in drawn if not set(drawn[name]) & set(drawn)]
+            self.assertTrue(free, drawn)
+            for name in free:
+                del drawn[name]
+
+    def test_each_name_once(self):
+        """L3, L15: at a file's top; and no local is called like a class or an import of its file."""
+        for path, tree in trees():
+            names = defined_at_top(tree) + [alias.name for node in imports_of(tree) for alias in node.names]
+            with self.subTest(file=path.name):
+                self.assertEqual(len(names), len(set(names)))
+            for node in tree.body:
+                self.assertIsInstance(node, (ast.Expr, ast.ImportFrom, ast.FunctionDef, ast.ClassDef, ast.Assign))
+            for node in ast.walk(tree):
+                if isinstance(node, ast.FunctionDef):
+                    with self.subTest(file=path.name, line=node.lineno):
+                        self.assertEqual(own_locals(node) & set(names), set())
+
+    def test_errors(self):
+        """L19: error classes of the program's own alone are raised and taken, and made on the spot."""
+        own = [node.name for node in ast.parse((PACKAGE / "errors.py").read_text(encoding="utf-8")).body[1:]]
+        for path, tree in trees():
+            for node in ast.walk(tree):
+                with self.subTest(file=path.name, line=getattr(node, "lineno", 0)):
+                    if isinstance(node, ast.Raise):
+                        self.assertIn(node.exc.func.id, own)
+                    if isinstance(node, ast.ExceptHandler):
+                        self.assertIn(node.type.id, own)
+                    if isinstance(node, ast.Try):
+                        self.assertEqual(node.finalbody, [])
+
+    def test_sets_and_texts(self):
+        """L7, L22, L24, L27: sets are not kept, keywords are few, and no text has a percent sign."""
+        for path, tree in trees():
+            inside = []
+            for node in ast.walk(tree):
+                with self.subTest(file=path.name, line=getattr(node, "lineno", 0)):
+                    self.assertNotIsInstance(node, ast.Set)
+                    if isinstance(node, ast.Constant) and isinstance(node.value, str):
+                        self.assertNotIn("%", node.value)
+                    if isinstance(node, ast.Call) and isinstance(node.func, ast.Name):
+                        if node.func.id in ("sorted", "len") and not node.keywords:
+                            inside += node.args
+                        if node.func.id == "set":
+                            self.assertIn(node, inside)
+                    if isinstance(node, ast.keyword):
+                        self.assertIn(node.arg, ("key", "reverse", "default", "start", "strict"))
 
     def test_statements(self):
         """L3, L6."""

@@ -1,14 +1,11 @@
 import unittest
 from copy import deepcopy
 
-from samples import (
-    LETTERS, LONG, hung_under, names, no_places_of_three, small_things, some_of, things_of_three,
-)
+from askmodels import groups_of
+from samples import LETTERS, RULES, names, no_places_of_three, no_rules, small_things, some_of, things_of_three
 from shrinkhouse.errors import NoPlace, NoRule
 from shrinkhouse.rules import groups
 from shrinkhouse.things import Forest, Row, Table
-
-RULES = ["halves", "trees", "ones", "marks"]
 
 FOREST = Forest([("a", 0), ("b", 1), ("a", 2), ("c", 2), ("b", 1), ("a", 0), ("c", 1)])
 TABLE = Table([["a", "b", "c"], ["c", "a", "a"], ["b", "b", "x"]])
@@ -171,33 +168,11 @@ class MarksTest(RulesTest):
 class EverySmallThingTest(RulesTest):
     """Point 13, of every list of places of many small things, by its words."""
 
-    def hung_and_kept(self, thing, place, places):
-        if not isinstance(thing, Forest):
-            return [place]
-        nodes = thing.form()[1]
-        return [other for other in places if other == place or place in hung_under(nodes, other)]
-
-    def spots_kept(self, thing, places):
-        """Tuples (mark, place) of what is left, as they are read; of a table the place of the line."""
-        if not isinstance(thing, Table):
-            return [(thing.spots()[place], place) for place in places]
-        lines = thing.form()[2]
-        columns = [place - len(lines) for place in places if place >= len(lines)]
-        return [(lines[line][column], line) for line in places if line < len(lines) for column in columns]
-
-    def by_marks(self, thing, places):
-        found = {}
-        for mark, place in self.spots_kept(thing, places):
-            if place not in found.setdefault(mark, []):
-                found[mark].append(place)
-        return list(found.values())
-
-    def test_trees_ones_and_marks(self):
+    def test_each_rule(self):
         for thing in small_things():
             for places in some_of(range(thing.many())):
-                self.told("ones", thing, places, [[place] for place in places])
-                self.told("trees", thing, places, [self.hung_and_kept(thing, place, places) for place in places])
-                self.told("marks", thing, places, self.by_marks(thing, places))
+                for rule in RULES:
+                    self.told(rule, thing, places, groups_of(rule, thing, places))
 
     def test_some_of_the_places_rising(self):
         for thing in small_things():
@@ -211,27 +186,13 @@ class EverySmallThingTest(RulesTest):
 class NoRuleTest(RulesTest):
     """Point 13: what is no rule."""
 
-    def no_rules(self):
-        wrong = [
-            None, True, False, 0, 1, -1, LONG, [], (), ["halves"], ("halves",), ["halves", "ones"], RULES, tuple(RULES),
-            [["ones"]], [[[["ones"]]]], "", " ", "\n", "\t", "a", "rule", "half", "tree", "one", "mark", "all", "halves ones",
-            "halvesones", ",", "halves,ones",
-        ]
-        for rule in RULES:
-            wrong += [rule.upper(), rule.capitalize(), rule * 2]
-            for at in range(len(rule) + 1):
-                for sign in ["a", "s", "z", "A", " ", "\n", "\t", "_", "0"]:
-                    wrong += [rule[:at] + sign + rule[at:], rule[:at] + sign + rule[at + 1:]]
-                wrong += [rule[:at] + rule[at + 1:], rule[:at] + rule[at:at + 1].upper() + rule[at + 1:], rule[:at]]
-        return [rule for rule in wrong if rule not in RULES]
-
     def refused(self, rule, thing, places):
         with self.subTest(rule=rule, places=places), self.assertRaises(NoRule) as caught:
             groups(rule, thing, places)
         self.assertIs(type(caught.exception), NoRule)
 
     def test_no_rule(self):
-        for rule in self.no_rules():
+        for rule in no_rules():
             for thing in [Row(["a", "b"]), Forest([("a", 0), ("b", 1)]), Table([["a"]])]:
                 self.refused(rule, thing, [0, 1])
             self.refused(rule, Row([]), [])
